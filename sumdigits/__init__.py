@@ -1,0 +1,1 @@
+"""Sumdigits: schemes of cells for sums over columns of all sizes."""
