@@ -1,0 +1,59 @@
+"""Whether a table tells 0 everywhere, for all lengths, and where it does not."""
+
+from sumdigits.checks import is_letter
+from sumdigits.closing import search_tables, told_words, value_behind
+from sumdigits.errors import BadLetter, BadWord
+from sumdigits.papers import Verdict
+from sumdigits.parts import behind
+from sumdigits.tables import check_table
+
+
+class Nought(Verdict):
+    """The values at all readings are 0: the readings are closed with the factors."""
+
+    def __init__(self, readings, factors):
+        self.readings = readings
+        self.factors = factors
+
+    def __eq__(self, other):
+        return isinstance(other, Nought) and self.readings == other.readings and self.factors == other.factors
+
+    def __bool__(self):
+        return True
+
+
+class Somewhere(Verdict):
+    """The value at the words, of the width 0 at the length, is not 0."""
+
+    def __init__(self, words, value):
+        self.words = words
+        self.value = value
+
+    def __eq__(self, other):
+        return isinstance(other, Somewhere) and self.words == other.words and self.value == other.value
+
+    def __bool__(self):
+        return False
+
+
+def vector(table, reading):
+    """The vector behind a reading: a dict from all states to its numbers."""
+    check_table(table, "table")
+    if not isinstance(reading, tuple) or len(reading) > 100:
+        raise BadWord(reading)
+    for letter in reading:
+        if not is_letter(letter, table.base, table.width):
+            raise BadLetter(letter)
+    numbers = {table.start: 1}
+    for letter in reading:
+        numbers = behind(table.steps, numbers, letter)
+    return {state: numbers.get(state, 0) for state in table.states}
+
+
+def nought(table):
+    """A Nought if the table tells 0 at all readings, otherwise a Somewhere of the least one at which it does not."""
+    check_table(table, "table")
+    found = search_tables([table], [1])
+    if found.odd is None:
+        return Nought(tuple(found.readings), found.all_factors())
+    return Somewhere(told_words(found.odd, table.width), value_behind(table, found.odd))
