@@ -1,0 +1,112 @@
+"""The examples of the document, as they stand; what they take from known.py comes from the helpers."""
+
+import unittest
+
+import helpers
+from examples import run_examples
+
+WORDS = '''
+>>> from sumdigits.words import all_words, is_word, number_of, reading, word_of, words_of
+>>> [number_of("0110", 2), number_of("", 3), word_of(5, 3, 4), word_of(0, 2, 0), list(all_words(2, 2)), is_word("012", 2), is_word("012", 3)]
+[6, 0, '0012', '', ['00', '01', '10', '11'], False, True]
+>>> [reading("01", "11"), reading("", ""), words_of(("01", "11"), 2), words_of((), 3)]
+[('01', '11'), (), ('01', '11'), ('', '', '')]
+>>> reading("01", "1")
+raises Unlike('length')
+>>> word_of(9, 3, 2)
+raises BadNumber(9)
+'''
+
+TABLES = '''
+>>> from sumdigits.tables import Table
+>>> less = Table.of(2, 2, "e", ("e", "00", 1, "e"), ("e", "11", 1, "e"), ("e", "01", 1, "f"), ("f", "00", 1, "f"), ("f", "01", 1, "f"), ("f", "10", 1, "f"), ("f", "11", 1, "f"), f=1)
+>>> [less["0110", "0111"], less["10", "01"], less["", ""], less.total(2), len(less), list(less), "10" in less, less.steps["e", "01"], less.ends]
+[1, 0, 0, 6, 2, ['e', 'f'], True, {'f': 1}, {'f': 1}]
+>>> size = Table.of(2, 1, "a", ("a", "0", 1, "a"), ("a", "1", 1, "a"), ("a", "1", 1, "b"), ("b", "0", 2, "b"), ("b", "1", 2, "b"), b=1)
+>>> [size["1011"], size["000"], size.total(3), str(size), Table.read(str(size)) == size, (size * 3)["11"], (size - size)["101"]]
+[11, 0, 28, '2 1 a a:0*1>a a:1*1>a a:1*1>b b:0*2>b b:1*2>b b=1', True, 9, 0]
+>>> [(less + ~less)["01", "10"], (less * ~less)["01", "10"], (less >> less)["00", "11"], less.summed(1)["01"], less.summed(0)["01"], less.summed(0).summed(0).total(2)]
+[1, 0, 2, 2, 1, 6]
+>>> [less.placed(3, 2, 0)["11", "00", "01"], (size | size)["31"], size.placed(2, 1)["111", "010"], less.with_end("e", 1)["10", "10"], len(less.with_end("f", 0).trimmed())]
+[1, 6, 2, 1, 1]
+>>> less["0", "01"]
+raises Unlike('length')
+>>> less.summed(2)
+raises BadPlace(2)
+>>> Table.read("2 1 a a:2*1>a")
+raises BadText(0, 3)
+'''
+
+SPACES = '''
+>>> from sumdigits.spaces import Rows, determinant
+>>> rows = Rows.of(3, (1, 1, 0), (0, 2, 1), (2, 4, 1))
+>>> [len(rows), list(rows), rows.made_of((1, 3, 1)), rows.made_of((1, 1, 1)), (0, 0, 0) in rows, [1, 1, 0] in rows]
+[2, [(1, 1, 0), (0, 2, 1)], (1, (1, 1)), None, True, False]
+>>> [Rows.of(2, (2, 0), (0, 3)).made_of((1, 1)), rows.more((0, 0, 5)) <= rows, rows <= rows.more((0, 0, 5)), determinant([(0, 1), (1, 1)]), determinant([[2, 4], [1, 2]]), determinant([])]
+[(6, (3, 2)), False, True, -1, 0, 1]
+>>> rows.more((1, 2))
+raises BadNumber((1, 2))
+'''
+
+NOUGHTS = '''
+>>> from sumdigits.noughts import Nought, Somewhere, nought, vector
+>>> loops = [("b", "0", 1, "b"), ("b", "1", 1, "b"), ("c", "0", 1, "c"), ("c", "1", 1, "c")]
+>>> gone = Table.of(2, 1, "a", ("a", "0", 1, "a"), ("a", "1", 1, "b"), ("a", "1", -1, "c"), *loops, b=1, c=1)
+>>> [bool(nought(gone)), vector(gone, ("0", "1", "0")), nought(gone.with_end("c", 2)) == Somewhere(("1",), -1), nought(equal(2)) == Somewhere(("", ""), 1)]
+[True, {'a': 0, 'b': 1, 'c': -1}, True, True]
+>>> told = {(0, "0"): (1, (1, 0)), (0, "1"): (1, (0, 1)), (1, "0"): (1, (0, 1)), (1, "1"): (1, (0, 1))}
+>>> nought(gone) == Nought(((), ("1",)), told)
+True
+>>> vector(gone, ("0", "2"))
+raises BadLetter('2')
+'''
+
+ALIKE = '''
+>>> from sumdigits.alike import Apart, alike, first_apart
+>>> [bool(alike(at_most(2) - equal(2), below(2))), alike(below(2), at_most(2)) == Apart(("", ""), 0, 1), alike(below(2), ~below(2)) == Apart(("0", "1"), 1, 0)]
+[True, True, True]
+>>> first_apart(equal(3), [at_most(3) * ~at_most(3), equal(3) + equal(3) - equal(3), below(3)])
+2
+>>> alike(below(2), below(3))
+raises Unlike('base')
+'''
+
+SCHEMES = '''
+>>> from sumdigits.schemes import Plane, Scheme, row_of
+>>> tree, own = tree_scheme(), Scheme(Plane(equal(2), equal(2)))
+>>> [row_of(tree[0].change, "010"), row_of(tree[0].question, "110"), row_of(equal(2), "01")]
+[{'010': 1, '011': 1}, {'011': 1, '101': 1}, {'01': 1}]
+>>> both = tree + own
+>>> [len(both), both[1] == own[0], both.answers()["01", "10"], both.answers()["10", "10"], (~both).answers()["10", "01"], both == own + tree]
+[2, True, 1, 1, 1, False]
+>>> both[2]
+raises NoPlane(2)
+'''
+
+
+class Examples(unittest.TestCase):
+    def run_with_helpers(self, text):
+        names = {name: getattr(helpers, name) for name in ("Table", "equal", "below", "at_most", "tree_scheme")}
+        run_examples(self, text, names)
+
+    def test_words(self):
+        run_examples(self, WORDS, {})
+
+    def test_tables(self):
+        run_examples(self, TABLES, {})
+
+    def test_spaces(self):
+        run_examples(self, SPACES, {})
+
+    def test_noughts(self):
+        self.run_with_helpers(NOUGHTS)
+
+    def test_alike(self):
+        self.run_with_helpers(ALIKE)
+
+    def test_schemes(self):
+        self.run_with_helpers(SCHEMES)
+
+
+if __name__ == "__main__":
+    unittest.main()
