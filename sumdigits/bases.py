@@ -33,22 +33,22 @@ def empty_basis(width, prime):
 
 
 def taken(basis, row, hint):
-    """A pair: the basis with the row and None; or, if the row depends on it, None and the pair that made_of tells."""
+    """A pair: the basis with the row and None; or, if the row depends on it, None and the pair that multiples tells."""
     grown = _grown(basis, row)
     if grown is not None:
         return grown, None
-    told = _made_of(basis, row, hint)
+    told = _lifted(basis, row, hint)
     if told is None:
         return _grown_anew(basis, row), None
     return None, told
 
 
-def made_of(basis, row, hint):
+def multiples(basis, row, hint):
     """None if the row depends on none of the rows; otherwise the least divisor from 1 on, and the integers by
     which the rows add up to divisor times the row. A hint is an integer from 1 on that the divisor may divide."""
     if _free_column(basis, _less_rows(basis, row, _leaning(basis, row))) is not None:
         return None
-    return _made_of(basis, row, hint)
+    return _lifted(basis, row, hint)
 
 
 def all_depend(basis, rows):
@@ -56,7 +56,7 @@ def all_depend(basis, rows):
     hint = 1
     for row in rows:
         if len(basis.rows) < len(row):
-            told = made_of(basis, row, hint)
+            told = multiples(basis, row, hint)
             if told is None:
                 return False
             hint = lcm(hint, told[0])
@@ -140,8 +140,8 @@ def _prime_above(number):
     return number
 
 
-def _made_of(basis, row, hint):
-    """What made_of tells of a row that depends on the rows modulo the prime."""
+def _lifted(basis, row, hint):
+    """What multiples tells of a row that depends on the rows modulo the prime."""
     rest = [hint * number for number in row]
     told = [0] * len(basis.rows)
     scale = 1

@@ -1,7 +1,7 @@
 """Rows of integers that do not depend on one another, and determinants."""
 
-from sumdigits.bases import FIRST_PRIME, all_depend, empty_basis, made_of, taken
-from sumdigits.checks import is_between, is_integer, is_row
+from sumdigits.bases import FIRST_PRIME, all_depend, empty_basis, multiples, taken
+from sumdigits.checks import is_between, is_row
 from sumdigits.errors import BadNumber, BadWidth
 
 
@@ -35,7 +35,7 @@ class Rows:
     def made_of(self, row):
         """None, or the least divisor and the numbers by which the rows add up to divisor times the row."""
         _check_row(row, self.width)
-        return made_of(self._basis, row, 1)
+        return multiples(self._basis, row, 1)
 
     def __contains__(self, x):
         return is_row(x, self.width) and all_depend(self._basis, [x])

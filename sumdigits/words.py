@@ -34,7 +34,7 @@ def _digits_of(number, base, length):
     for _ in range(length):
         digits.append(str(number % base))
         number = number // base
-    return "".join(list(reversed(digits)))
+    return "".join(digits[::-1])
 
 
 def all_words(base, length):
