@@ -98,12 +98,6 @@ class Scheme:
         return " | ".join([str(plane) for plane in self.planes])
 
 
-def check_scheme(value, name):
-    """Refuse a parameter of this name that is no scheme."""
-    if not isinstance(value, Scheme):
-        raise BadScheme(name)
-
-
 def _read_all_parts(words):
     """The parts of the tables of a scheme, two for each plane."""
     at, parts = read_parts(words, 0, [2, 3, 4], [2])

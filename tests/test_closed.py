@@ -9,6 +9,7 @@ from helpers import (
     assert_order, assert_raises, at_most, below, chain, crowded, equal, letters_of, odd_values, random_table,
     readings_of_length, ring, same, size_table, slow_value, slow_vector, snapshot, some_function, tree_scheme)
 from sumdigits.alike import Alike, Apart, alike, first_apart
+from sumdigits.closing import search
 from sumdigits.errors import BadLetter, BadTable, BadWord, TooMany, Unlike
 from sumdigits.noughts import Nought, Somewhere, nought, vector
 from sumdigits.tables import Table
@@ -210,6 +211,14 @@ class Noughts(Closed):
         table = crowded(2, 0, 40, 1600, 0)
         self.assert_closed([table], [1], nought(table))
         self.assertLess(time.process_time() - begun, 60)
+
+
+class Searches(unittest.TestCase):
+    def test_400_and_401_numbers(self):
+        for many in (1, 400):
+            found = search((1,) + (0,) * (many - 1), [("", [(0, 0, 2)])], [0] * many)
+            self.assertEqual([found.readings, found.all_factors()], [[()], {(0, ""): (1, (2,))}])
+        assert_raises(self, TooMany, ["numbers", 400], search, (1,) * 401, [("", [])], [1] * 401)
 
 
 class Alikes(Closed):

@@ -21,8 +21,10 @@ NO_WORDS = set("""type typing typing_extensions enum Enum IntEnum StrEnum Flag I
 METHODS = set("""append clear copy count endswith extend find get index insert items join keys ljust lower lstrip partition pop
     remove replace reverse rfind rjust rpartition rsplit rstrip setdefault split splitlines startswith strip update upper
     values zfill bit_length removeprefix removesuffix""".split())
-NODES = (ast.GeneratorExp, ast.Set, ast.SetComp, ast.Global, ast.AsyncFunctionDef, ast.Await, ast.Div, ast.MatMult,
-         ast.AugAssign, ast.AnnAssign, ast.Try, ast.Lambda, ast.With, ast.Match, ast.NamedExpr, ast.Delete, ast.Import)
+NEVER = (ast.Global, ast.AsyncFunctionDef, ast.Await, ast.Div, ast.MatMult, ast.AnnAssign, ast.Import)
+# The language allows these under narrow rules that this test does not see: read them before one leaves this list.
+NOT_SO_FAR = (ast.GeneratorExp, ast.Set, ast.SetComp, ast.AugAssign, ast.Try, ast.Lambda, ast.With, ast.Match,
+              ast.NamedExpr, ast.Delete)
 
 
 def files():
@@ -64,7 +66,7 @@ class Form(unittest.TestCase):
     def test_no_other_forms(self):
         for path, tree in trees():
             for node in ast.walk(tree):
-                self.assertNotIsInstance(node, NODES, (path.name, getattr(node, "lineno", 0)))
+                self.assertNotIsInstance(node, NEVER + NOT_SO_FAR, (path.name, getattr(node, "lineno", 0)))
                 if isinstance(node, ast.Constant):
                     self.assertNotIsInstance(node.value, float, path.name)
                     if isinstance(node.value, str):

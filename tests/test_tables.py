@@ -413,7 +413,7 @@ class Texts(unittest.TestCase):
     def test_read_what_str_writes(self):
         dice = random.Random(6)
         for trial in range(200):
-            table = random_table(dice, dice.choice((2, 3, 4)), dice.choice((0, 1, 2)), 5)
+            table = random_table(dice, dice.choice((2, 3, 4)), dice.choice((0, 1, 2, 3)), 3)
             table = table.with_end("a2345678", dice.choice((10 ** 40 - 1, -10 ** 39, 1 - 10 ** 40)))
             made = Table.read(str(table))
             self.assertEqual(made, table)
