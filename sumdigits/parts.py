@@ -132,6 +132,7 @@ def goals_by_state(flat):
 
 def trimmed_parts(start, flat, ends):
     """The flat steps and the ends that are left without useless states but the start."""
-    left = {**useful_states(start, goals_by_state(flat), ends), start: True}
+    useful = useful_states(start, goals_by_state(flat), ends)
+    left = {**useful, start: True}
     steps = {key: flat[key] for key in flat if key[0] in left and key[2] in left}
     return steps, {state: ends[state] for state in ends if state in left}

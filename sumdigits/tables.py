@@ -106,8 +106,9 @@ class Table:
             raise BadWeight(weight)
         if not is_name(to):
             raise BadName(to)
-        flat = {**flat_steps(self.steps), (state, letter, to): weight}
-        return Table(self.base, self.width, self.start, nested_steps(flat), self.ends)
+        flat = flat_steps(self.steps)
+        steps = nested_steps({**flat, (state, letter, to): weight})
+        return Table(self.base, self.width, self.start, steps, self.ends)
 
     def with_end(self, state, weight):
         """The table with this weight of the end."""
