@@ -1,9 +1,11 @@
 """Whether two tables tell the same everywhere, for all lengths, and where they do not."""
 
-from sumdigits.closing import search_tables, told_words, value_behind
+from sumdigits.closing import search
 from sumdigits.errors import BadTable
 from sumdigits.papers import Verdict
+from sumdigits.readings import told_words, value_behind
 from sumdigits.tables import Table, check_alike, check_table
+from sumdigits.walks import TableWalk
 
 
 class Alike(Verdict):
@@ -41,7 +43,7 @@ def alike(one, other):
     check_table(one, "one")
     check_table(other, "other")
     check_alike(one, other)
-    found = search_tables([one, other], [1, -1])
+    found = search(TableWalk([one, other], [1, -1]))
     if found.odd is None:
         return Alike(tuple(found.readings), found.all_factors())
     words = told_words(found.odd, one.width)

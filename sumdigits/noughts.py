@@ -1,11 +1,10 @@
 """Whether a table tells 0 everywhere, for all lengths, and where it does not."""
 
-from sumdigits.checks import is_letter
-from sumdigits.closing import search_tables, told_words, value_behind
-from sumdigits.errors import BadLetter, BadWord
+from sumdigits.closing import search
 from sumdigits.papers import Verdict
-from sumdigits.parts import behind
+from sumdigits.readings import check_reading, told_words, value_behind, vector_behind
 from sumdigits.tables import check_table
+from sumdigits.walks import TableWalk
 
 
 class Nought(Verdict):
@@ -39,21 +38,15 @@ class Somewhere(Verdict):
 def vector(table, reading):
     """The vector behind a reading: a dict from all states to its numbers."""
     check_table(table, "table")
-    if not isinstance(reading, tuple) or len(reading) > 100:
-        raise BadWord(reading)
-    for letter in reading:
-        if not is_letter(letter, table.base, table.width):
-            raise BadLetter(letter)
-    numbers = {table.start: 1}
-    for letter in reading:
-        numbers = behind(table.steps, numbers, letter)
+    check_reading(reading, table)
+    numbers = vector_behind(table, reading)
     return {state: numbers.get(state, 0) for state in table.states}
 
 
 def nought(table):
     """A Nought if the table tells 0 at all readings, otherwise a Somewhere of the least one at which it does not."""
     check_table(table, "table")
-    found = search_tables([table], [1])
+    found = search(TableWalk([table], [1]))
     if found.odd is None:
         return Nought(tuple(found.readings), found.all_factors())
     return Somewhere(told_words(found.odd, table.width), value_behind(table, found.odd))

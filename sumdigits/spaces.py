@@ -1,6 +1,6 @@
 """Rows of integers that do not depend on one another, and determinants."""
 
-from sumdigits.bases import FIRST_PRIME, all_depend, empty_basis, multiples, taken
+from sumdigits.bases import FIRST_PRIME, Basis, all_depend, as_tuple, copy_of, multiples, sparse, taken
 from sumdigits.checks import is_between, is_row
 from sumdigits.errors import BadNumber, BadWidth
 
@@ -12,7 +12,8 @@ class Rows:
         if not is_between(width, 1, 60):
             raise BadWidth(width)
         self.width = width
-        self._basis = empty_basis(width, FIRST_PRIME)
+        self._rows = ()
+        self._basis = Basis(FIRST_PRIME)
 
     @staticmethod
     def of(width, *rows):
@@ -25,29 +26,29 @@ class Rows:
     def more(self, row):
         """With one row more, if it does not depend on those that are there."""
         _check_row(row, self.width)
-        basis, _ = taken(self._basis, row, 1)
-        if basis is None:
-            return self
         found = Rows(self.width)
-        found._basis = basis
+        found._basis = copy_of(self._basis)
+        told = taken(found._basis, sparse(row))
+        found._rows = self._rows + (row,) if told is None else self._rows
         return found
 
     def made_of(self, row):
         """None, or the least divisor and the numbers by which the rows add up to divisor times the row."""
         _check_row(row, self.width)
-        return multiples(self._basis, row, 1)
+        told = multiples(self._basis, sparse(row), 1)
+        return None if told is None else (told[0], as_tuple(told[1], len(self._rows)))
 
     def __contains__(self, x):
-        return is_row(x, self.width) and all_depend(self._basis, [x])
+        return is_row(x, self.width) and all_depend(self._basis, [sparse(x)])
 
     def __len__(self):
-        return len(self._basis.rows)
+        return len(self._rows)
 
     def __iter__(self):
-        return iter(self._basis.rows)
+        return iter(self._rows)
 
     def __bool__(self):
-        return bool(self._basis.rows)
+        return bool(self._rows)
 
     def __le__(self, other):
         if not isinstance(other, Rows):
@@ -57,7 +58,7 @@ class Rows:
         return all_depend(other._basis, self._basis.rows)
 
     def __eq__(self, other):
-        return isinstance(other, Rows) and self.width == other.width and self._basis.rows == other._basis.rows
+        return isinstance(other, Rows) and self.width == other.width and self._rows == other._rows
 
 
 def _check_row(row, width):

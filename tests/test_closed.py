@@ -8,8 +8,8 @@ from math import gcd
 from helpers import (
     assert_order, assert_raises, at_most, below, chain, crowded, equal, letters_of, odd_values, random_table,
     readings_of_length, ring, same, size_table, slow_value, slow_vector, snapshot, some_function, tree_scheme)
+from own_looks import is_closed, table_vectors
 from sumdigits.alike import Alike, Apart, alike, first_apart
-from sumdigits.closing import search
 from sumdigits.errors import BadLetter, BadTable, BadWord, TooMany, Unlike
 from sumdigits.noughts import Nought, Somewhere, nought, vector
 from sumdigits.tables import Table
@@ -213,14 +213,6 @@ class Noughts(Closed):
         self.assertLess(time.process_time() - begun, 60)
 
 
-class Searches(unittest.TestCase):
-    def test_400_and_401_numbers(self):
-        for many in (1, 400):
-            found = search((1,) + (0,) * (many - 1), [("", [(0, 0, 2)])], [0] * many)
-            self.assertEqual([found.readings, found.all_factors()], [[()], {(0, ""): (1, (2,))}])
-        assert_raises(self, TooMany, ["numbers", 400], search, (1,) * 401, [("", [])], [1] * 401)
-
-
 class Alikes(Closed):
     def test_small_tables(self):
         dice = random.Random(14)
@@ -345,6 +337,67 @@ class Alikes(Closed):
             silent = crowded(base, width, 40, steps, 0)
             assert_raises(self, TooMany, ["readings", 40], alike, silent, crowded(base, width, 40, steps, 0, seed=2))
         self.assertLess(time.process_time() - begun, 60)
+
+
+def line_of(width, letter, end=3, many=40):
+    """A chain of states that goes on by one letter alone."""
+    steps = {(f"c{at}", letter): {f"c{at + 1}": 1} for at in range(many - 1)}
+    return Table(2, width, "c0", steps, {f"c{many - 1}": end})
+
+
+def both_ways(at, many=40):
+    """A ring of states each of which leads to the next one by 0 and by 1, with one end."""
+    steps = {(f"r{state}", digit): {f"r{(state + 1) % many}": 1} for state in range(many) for digit in "01"}
+    return Table(2, 1, "r0", steps, {f"r{at}": 3})
+
+
+class Sparse(unittest.TestCase):
+    """Tables with many states and few steps: right answers, and quick ones."""
+
+    def assert_closed(self, tables, signs, paper):
+        self.assertTrue(is_closed(table_vectors(tables, signs), paper.readings, paper.factors))
+
+    def test_chains(self):
+        for width, letter in ((0, ""), (1, "1"), (1, "0"), (2, "10"), (3, "111"), (3, "010")):
+            table = line_of(width, letter)
+            words = 39 if width == 0 else tuple(digit * 39 for digit in letter)
+            self.assertEqual(nought(table), Somewhere(words, 3))
+            paper = nought(line_of(width, letter, 0))
+            self.assertEqual(paper.readings, tuple((letter,) * length for length in range(40)))
+            self.assert_closed([line_of(width, letter, 0)], [1], paper)
+
+    def test_two_chains(self):
+        one, other = line_of(1, "0", 0), line_of(1, "1", 0)
+        assert_raises(self, TooMany, ["readings", 40], alike, one, other)
+        single = Table(2, 1, "c0", {}, {})
+        paper = alike(one, single)
+        self.assertEqual(paper.readings, tuple(("0",) * length for length in range(40)))
+        self.assert_closed([one, single], [1, -1], paper)
+        self.assertEqual(alike(line_of(1, "0"), single), Apart(("0" * 39,), 3, 0))
+        short = line_of(1, "0", 0, 20), line_of(1, "1", 0, 21)
+        self.assert_closed(short, [1, -1], alike(*short))
+
+    def test_rings(self):
+        paper = alike(both_ways(7), both_ways(7))
+        self.assertEqual(paper.readings, tuple(("0",) * length for length in range(40)))
+        self.assert_closed([both_ways(7), both_ways(7)], [1, -1], paper)
+        self.assertEqual(alike(both_ways(7), both_ways(8)), Apart(("0" * 7,), 3, 0))
+        self.assertEqual(alike(both_ways(39), both_ways(8)), Apart(("0" * 8,), 0, 3))
+
+    def test_many_questions_in_time(self):
+        lines = [line_of(width, "1" * width, end) for width in (0, 1, 2, 3) for end in (0, 3)]
+        one, other, single = line_of(1, "0", 0), line_of(1, "1", 0), Table(2, 1, "c0", {}, {})
+        rings = both_ways(7), both_ways(7)
+        begun = time.process_time()
+        for _ in range(40):
+            for table in lines:
+                nought(table)
+            assert not alike(line_of(1, "0"), single)
+            self.assertRaises(TooMany, alike, one, other)
+            alike(one, single)
+            alike(*rings)
+        # 480 questions: about a quarter of a second, where seconds mean a fault.
+        self.assertLess(time.process_time() - begun, 3)
 
 
 if __name__ == "__main__":

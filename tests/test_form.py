@@ -187,10 +187,11 @@ class Form(unittest.TestCase):
         for path, tree in trees():
             for node in ast.walk(tree):
                 if isinstance(node, ast.Call) and isinstance(node.func, ast.Name):
-                    self.assertFalse(node.keywords, (path.name, node.lineno))
+                    by_length = [ast.unparse(word) for word in node.keywords] == ["key=len"]
+                    self.assertTrue(not node.keywords or by_length, (path.name, node.lineno))
                     if node.func.id == "reversed":
                         self.fail("reversed takes only some of what it might be given")
-                    if node.func.id in ("sorted", "min", "max"):
+                    if node.func.id in ("sorted", "min", "max") and not by_length:
                         self.assertIsInstance(node.args[0], ast.ListComp, path.name)
 
 
