@@ -98,6 +98,22 @@ class Scheme:
         return " | ".join([str(plane) for plane in self.planes])
 
 
+def check_scheme(value, name):
+    """Refuse a parameter of this name that is no scheme."""
+    if not isinstance(value, Scheme):
+        raise BadScheme(name)
+
+
+def check_wanted(scheme, wanted):
+    """Refuse what is no scheme, no wanted table, and what does not go together."""
+    check_scheme(scheme, "scheme")
+    check_table(wanted, "wanted")
+    if scheme.base != wanted.base:
+        raise Unlike("base")
+    if wanted.width != 2:
+        raise BadWidth(wanted.width)
+
+
 def _read_all_parts(words):
     """The parts of the tables of a scheme, two for each plane."""
     at, parts = read_parts(words, 0, [2, 3, 4], [2])

@@ -8,6 +8,7 @@ from sumdigits.alike import Alike, Apart
 from sumdigits.errors import SumError
 from sumdigits.noughts import Nought, Somewhere
 from sumdigits.papers import Verdict
+from sumdigits.ranks import Rank
 
 FIELDS = {
     "BadBase": ["value"], "BadWidth": ["value"], "BadName": ["value"], "BadWord": ["value"], "BadNumber": ["value"],
@@ -54,43 +55,47 @@ class Errors(unittest.TestCase):
                 raise getattr(errors, name)(*fields)
 
 
+PAPERS = [
+    (Nought, ["readings", "factors"], True), (Somewhere, ["words", "value"], False),
+    (Alike, ["readings", "factors"], True), (Apart, ["words", "one", "other"], False),
+    (Rank, ["number", "ahead", "behind"], None)]
+
+
 class Papers(unittest.TestCase):
     def test_which_are_verdicts(self):
-        for paper in (Nought, Somewhere, Alike, Apart):
-            self.assertTrue(issubclass(paper, Verdict))
-            for method in ("__eq__", "__bool__"):
-                self.assertIn(method, vars(paper))
-
-    def test_yes_and_no(self):
-        self.assertIs(bool(Nought((), {})), True)
-        self.assertIs(bool(Alike((), {})), True)
-        self.assertIs(bool(Somewhere((), 1)), False)
-        self.assertIs(bool(Apart((), 1, 2)), False)
+        for paper, fields, verdict in PAPERS:
+            self.assertIs(issubclass(paper, Verdict), verdict is not None)
+            self.assertIn("__eq__", vars(paper))
+            if verdict is not None:
+                self.assertIn("__bool__", vars(paper))
+                self.assertIs(bool(paper(*fields)), verdict)
 
     def test_any_values_are_kept(self):
-        for value in odd_values():
-            self.assertTrue(same(vars(Nought(value, 5)), {"readings": value, "factors": 5}))
-            self.assertTrue(same(vars(Nought(factors=value, readings=5)), {"readings": 5, "factors": value}))
-            self.assertTrue(same(vars(Alike(value, 5)), {"readings": value, "factors": 5}))
-            self.assertTrue(same(vars(Alike(factors=value, readings=5)), {"readings": 5, "factors": value}))
-            self.assertTrue(same(vars(Somewhere(value, 5)), {"words": value, "value": 5}))
-            self.assertTrue(same(vars(Somewhere(value=value, words=5)), {"words": 5, "value": value}))
-            self.assertTrue(same(vars(Apart(value, 5, 6)), {"words": value, "one": 5, "other": 6}))
-            self.assertTrue(same(vars(Apart(other=value, one=5, words=6)), {"words": 6, "one": 5, "other": value}))
+        for paper, fields, _ in PAPERS:
+            for value in odd_values():
+                for at in range(len(fields)):
+                    values = [value if place == at else place for place in range(len(fields))]
+                    due = dict(zip(fields, values))
+                    self.assertTrue(same(vars(paper(*values)), due))
+                    self.assertTrue(same(vars(paper(**dict(reversed(due.items())))), due))
 
     def test_equality(self):
-        for paper in (Nought, Alike, Somewhere):
-            self.assertEqual(paper((1,), "a"), paper((1,), "a"))
-            self.assertNotEqual(paper((1,), "a"), paper((2,), "a"))
-            self.assertNotEqual(paper((1,), "a"), paper((1,), "b"))
-            self.assertNotEqual(paper((1,), "a"), paper([1], "a"))
-        self.assertEqual(Apart(1, 2, 3), Apart(1, 2, 3))
-        for other in (Apart(0, 2, 3), Apart(1, 0, 3), Apart(1, 2, 0)):
-            self.assertNotEqual(Apart(1, 2, 3), other)
-        self.assertNotEqual(Nought((), {}), Alike((), {}))
-        for value in odd_values():
-            self.assertFalse(Alike(1, 2) == value)
-            self.assertTrue(Alike(1, 2) != value)
+        for paper, fields, _ in PAPERS:
+            values = list(range(len(fields)))
+            self.assertTrue(paper(*values) == paper(*values))
+            self.assertFalse(paper(*values) != paper(*values))
+            for at in range(len(fields)):
+                for other in (77, [at], (at,), None, "0"):
+                    self.assertFalse(paper(*values) == paper(*values[:at], other, *values[at + 1:]))
+            for value in odd_values() + [tuple(values), values]:
+                self.assertFalse(paper(*values) == value)
+                self.assertTrue(paper(*values) != value)
+
+    def test_papers_of_another_class_are_not_equal(self):
+        for one, fields, _ in PAPERS:
+            for other, others, _ in PAPERS:
+                if one is not other and len(fields) == len(others):
+                    self.assertFalse(one(*fields) == other(*fields))
 
 
 if __name__ == "__main__":

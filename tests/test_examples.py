@@ -1,8 +1,7 @@
-"""The examples of the document, as they stand; what they take from known.py comes from the helpers."""
+"""The examples of the document, as they stand, in its order: later ones use what earlier ones imported."""
 
 import unittest
 
-import helpers
 from examples import run_examples
 
 WORDS = '''
@@ -37,6 +36,19 @@ raises BadPlace(2)
 raises BadText(0, 3)
 '''
 
+KNOWN = '''
+>>> from sumdigits.known import at_most, below, count_table, equal, next_one, number_table, power, tree_scheme, within
+>>> [below(3)["02", "10"], at_most(2)["11", "11"], within(2)["0100", "0110"], next_one(2)["0111", "1000"], power(2, 3)["01", "01"], number_table(4)["123"], count_table(2, "1")["10110"]]
+[1, 1, 1, 1, 9, 27, 3]
+>>> [below(2).total(3), within(2).total(3), equal(4).total(2), next_one(3).total(2), count_table(2, "0").total(3)]
+[28, 27, 16, 8, 12]
+>>> tree = tree_scheme(2)
+>>> [tree[0].change["0110", "0111"], tree[0].change["0110", "0110"], tree[0].change["0110", "0011"], tree[0].question["0110", "0011"], tree[0].question["0110", "0101"]]
+[1, 1, 0, 1, 1]
+>>> below(5)
+raises BadBase(5)
+'''
+
 SPACES = '''
 >>> from sumdigits.spaces import Rows, determinant
 >>> rows = Rows.of(3, (1, 1, 0), (0, 2, 1), (2, 4, 1))
@@ -50,30 +62,41 @@ raises BadNumber((1, 2))
 
 NOUGHTS = '''
 >>> from sumdigits.noughts import Nought, Somewhere, nought, vector
+>>> from sumdigits.look_noughts import shows_nought
 >>> loops = [("b", "0", 1, "b"), ("b", "1", 1, "b"), ("c", "0", 1, "c"), ("c", "1", 1, "c")]
 >>> gone = Table.of(2, 1, "a", ("a", "0", 1, "a"), ("a", "1", 1, "b"), ("a", "1", -1, "c"), *loops, b=1, c=1)
 >>> [bool(nought(gone)), vector(gone, ("0", "1", "0")), nought(gone.with_end("c", 2)) == Somewhere(("1",), -1), nought(equal(2)) == Somewhere(("", ""), 1)]
 [True, {'a': 0, 'b': 1, 'c': -1}, True, True]
 >>> told = {(0, "0"): (1, (1, 0)), (0, "1"): (1, (0, 1)), (1, "0"): (1, (0, 1)), (1, "1"): (1, (0, 1))}
->>> nought(gone) == Nought(((), ("1",)), told)
-True
+>>> [shows_nought(gone, Nought(((), ("1",)), told)), shows_nought(gone, Nought(((),), {(0, "0"): (1, (1,)), (0, "1"): (1, (0,))})), shows_nought(equal(2), Somewhere(("01", "01"), 1))]
+[True, False, True]
 >>> vector(gone, ("0", "2"))
 raises BadLetter('2')
 '''
 
 ALIKE = '''
 >>> from sumdigits.alike import Apart, alike, first_apart
->>> [bool(alike(at_most(2) - equal(2), below(2))), alike(below(2), at_most(2)) == Apart(("", ""), 0, 1), alike(below(2), ~below(2)) == Apart(("0", "1"), 1, 0)]
-[True, True, True]
+>>> from sumdigits.look_alike import shows_alike
+>>> [bool(alike(at_most(2) - equal(2), below(2))), alike(below(2), at_most(2)) == Apart(("", ""), 0, 1), alike(below(2), ~below(2)) == Apart(("0", "1"), 1, 0), shows_alike(below(2), at_most(2), Apart(("1", "1"), 0, 1))]
+[True, True, True, True]
 >>> first_apart(equal(3), [at_most(3) * ~at_most(3), equal(3) + equal(3) - equal(3), below(3)])
 2
 >>> alike(below(2), below(3))
 raises Unlike('base')
 '''
 
+RANKS = '''
+>>> from sumdigits.ranks import Rank, rank, shows_rank, value_at
+>>> [rank(below(2)) == Rank(2, ((), ("01",)), ((), ("01",))), rank(gone) == Rank(0, (), ()), rank(equal(2) * 0).number, rank(below(2) + below(2)).number]
+[True, True, 0, 2]
+>>> [value_at(below(2), ("01",), ("00",)), shows_rank(below(2), Rank(1, (("01",),), ((),))), shows_rank(below(2), Rank(1, ((),), ((),)))]
+[1, True, False]
+'''
+
 SCHEMES = '''
+>>> from sumdigits.known import at_most, below, equal, tree_scheme
 >>> from sumdigits.schemes import Plane, Scheme, row_of
->>> tree, own = tree_scheme(), Scheme(Plane(equal(2), equal(2)))
+>>> tree, own = tree_scheme(2), Scheme(Plane(equal(2), equal(2)))
 >>> [row_of(tree[0].change, "010"), row_of(tree[0].question, "110"), row_of(equal(2), "01")]
 [{'010': 1, '011': 1}, {'011': 1, '101': 1}, {'01': 1}]
 >>> both = tree + own
@@ -83,29 +106,14 @@ SCHEMES = '''
 raises NoPlane(2)
 '''
 
+IN_ORDER = [WORDS, TABLES, KNOWN, SPACES, NOUGHTS, ALIKE, RANKS, SCHEMES]
+
 
 class Examples(unittest.TestCase):
-    def run_with_helpers(self, text):
-        names = {name: getattr(helpers, name) for name in ("Table", "equal", "below", "at_most", "tree_scheme")}
-        run_examples(self, text, names)
-
-    def test_words(self):
-        run_examples(self, WORDS, {})
-
-    def test_tables(self):
-        run_examples(self, TABLES, {})
-
-    def test_spaces(self):
-        run_examples(self, SPACES, {})
-
-    def test_noughts(self):
-        self.run_with_helpers(NOUGHTS)
-
-    def test_alike(self):
-        self.run_with_helpers(ALIKE)
-
-    def test_schemes(self):
-        self.run_with_helpers(SCHEMES)
+    def test_in_the_order_of_the_document(self):
+        names = {}
+        for text in IN_ORDER:
+            run_examples(self, text, names)
 
 
 if __name__ == "__main__":
