@@ -5,6 +5,8 @@ import random
 
 from sumdigits import errors
 from sumdigits.alike import Apart
+from sumdigits.cuts import Torn, Whole
+from sumdigits.judged import Right, Wrong
 from sumdigits.noughts import Nought, Somewhere
 from sumdigits.ranks import Rank
 from sumdigits.schemes import Plane, Scheme
@@ -53,7 +55,7 @@ def odd_values():
     return [None, True, False, -1, 5, 10 ** 59, "", "x", "E", "0", "5", "a b", "\n", (), (1,), ("e", "0"), [], [1],
             ["0", "1"], {}, {"e": 1}, {("e", "0"): {"e": True}}, some_function, size_table(), tree_scheme(),
             tree_scheme()[0], Rows.of(2, (1, 0)), Nought((), {}), Somewhere(("",), 1), Apart(("",), 0, 1),
-            Rank(1, ((),), ()),
+            Right(((),), {}), Wrong("", "", 0, 7), Whole((), None), Torn("0", "0", "1", 10 ** 50), Rank(1, ((),), ()),
             errors.BadBase(2)]
 
 

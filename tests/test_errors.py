@@ -5,7 +5,9 @@ import unittest
 from helpers import odd_values, same
 from sumdigits import errors
 from sumdigits.alike import Alike, Apart
+from sumdigits.cuts import Torn, Whole
 from sumdigits.errors import SumError
+from sumdigits.judged import Right, Wrong
 from sumdigits.noughts import Nought, Somewhere
 from sumdigits.papers import Verdict
 from sumdigits.ranks import Rank
@@ -58,6 +60,8 @@ class Errors(unittest.TestCase):
 PAPERS = [
     (Nought, ["readings", "factors"], True), (Somewhere, ["words", "value"], False),
     (Alike, ["readings", "factors"], True), (Apart, ["words", "one", "other"], False),
+    (Right, ["readings", "factors"], True), (Wrong, ["entry", "question", "told", "due"], False),
+    (Whole, ["readings", "factors"], True), (Torn, ["entry", "question", "cell", "worth"], False),
     (Rank, ["number", "ahead", "behind"], None)]
 
 

@@ -106,7 +106,30 @@ SCHEMES = '''
 raises NoPlane(2)
 '''
 
-IN_ORDER = [WORDS, TABLES, KNOWN, SPACES, NOUGHTS, ALIKE, RANKS, SCHEMES]
+JUDGED = '''
+>>> from sumdigits.judged import Right, Wrong, judge, told_at
+>>> from sumdigits.look_judged import shows_judged
+>>> [bool(judge(tree, below(2))), judge(tree, at_most(2)) == Wrong("", "", 0, 1), bool(judge(both, at_most(2))), told_at(tree, "01", "10")]
+[True, True, True, 1]
+>>> up = Table(2, 2, "e", {("e", "00"): {"e": 1, "f": 1}, ("e", "11"): {"e": 1}, ("f", "01"): {"f": 1}, ("f", "11"): {"f": 1}}, {"e": 1, "f": 1})
+>>> down = Table(2, 2, "e", {("e", "00"): {"e": 1}, ("e", "11"): {"e": 1}, ("e", "10"): {"f": 1}, ("f", "01"): {"f": 1}, ("f", "11"): {"f": 1}}, {"e": 1, "f": 1})
+>>> single = Scheme(Plane(up, down))
+>>> [judge(single, at_most(2)) == Wrong("0", "0", 2, 1), shows_judged(single, at_most(2), Wrong("0", "1", 2, 1)), shows_judged(tree, below(2), judge(tree, below(2))), shows_judged(tree, below(2), Right((), {}))]
+[True, True, True, False]
+'''
+
+CUTS = '''
+>>> from sumdigits.cuts import Torn, Whole, cut, lost, lost_at
+>>> from sumdigits.look_cuts import shows_cut
+>>> from sumdigits.known import halves_scheme, plain_scheme, tree_scheme
+>>> tree, halves = tree_scheme(2), halves_scheme()
+>>> [bool(cut(tree)), cut(halves) == Torn("0", "0", "1", 1), lost(halves)["0", "0", "1"], lost_at(tree, "01", "00", "11")]
+[True, True, 1, 0]
+>>> [shows_cut(tree, cut(tree)), shows_cut(halves, Torn("00", "10", "11", 1)), shows_cut(halves, Torn("00", "10", "11", 2)), shows_cut(tree, cut(halves))]
+[True, True, False, False]
+'''
+
+IN_ORDER = [WORDS, TABLES, KNOWN, SPACES, NOUGHTS, ALIKE, RANKS, SCHEMES, JUDGED, CUTS]
 
 
 class Examples(unittest.TestCase):
