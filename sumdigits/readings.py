@@ -3,7 +3,7 @@
 from sumdigits.checks import is_between, is_letter
 from sumdigits.errors import BadLetter, BadWord
 from sumdigits.parts import behind, ended
-from sumdigits.words import is_word, side_by_side, words_of
+from sumdigits.words import is_word, parted_letters, side_by_side
 
 
 def check_reading(value, table):
@@ -41,11 +41,11 @@ def value_behind(table, reading):
     return ended(vector_behind(table, reading), table.ends)
 
 
-def told_words(reading, width):
-    """The words of a reading; of the width 0, where there are no words, their length."""
+def told_words(letters, width):
+    """The words of which these are the letters; of the width 0, where there are no words, their length."""
     if width == 0:
-        return len(reading)
-    return words_of(reading, width)
+        return len(letters)
+    return parted_letters(letters, width)
 
 
 def told_reading(value, base, width):

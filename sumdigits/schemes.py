@@ -4,7 +4,7 @@ from sumdigits.checks import DIGITS, is_between
 from sumdigits.errors import BadPlane, BadScheme, BadText, BadWidth, BadWord, NoPlane, TooMany, Unlike
 from sumdigits.parts import behind, ended
 from sumdigits.table_text import read_parts, word_at, words_in
-from sumdigits.tables import Table, check_table
+from sumdigits.tables import Table, check_table, has_weight_below_0
 from sumdigits.words import is_word
 
 
@@ -112,6 +112,12 @@ def check_wanted(scheme, wanted):
         raise Unlike("base")
     if wanted.width != 2:
         raise BadWidth(wanted.width)
+
+
+def check_weights(scheme):
+    """Refuse a scheme with a weight below 0."""
+    if any([has_weight_below_0(plane.change) or has_weight_below_0(plane.question) for plane in scheme.planes]):
+        raise BadScheme("weights")
 
 
 def _read_all_parts(words):

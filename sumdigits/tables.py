@@ -225,6 +225,13 @@ def check_table(value, name):
         raise BadTable(name)
 
 
+def has_weight_below_0(table):
+    """Whether some step or some end has a weight below 0."""
+    if any([weight < 0 for weight in table.ends.values()]):
+        return True
+    return any([weight < 0 for goals in table.steps.values() for weight in goals.values()])
+
+
 def check_alike(one, other):
     """Refuse tables that do not go together."""
     if one.base != other.base:

@@ -77,4 +77,9 @@ def words_of(letters, width):
     for letter in letters:
         if not is_letter(letter, 4, width):
             raise BadLetter(letter)
-    return tuple(["".join([item[place] for item in letters]) for place in range(width)])
+    return parted_letters(letters, width)
+
+
+def parted_letters(letters, width):
+    """The words of which these are the letters, so many of them and of any length."""
+    return tuple(["".join([letter[place] for letter in letters]) for place in range(width)])

@@ -6,12 +6,14 @@ import random
 from sumdigits import errors
 from sumdigits.alike import Apart
 from sumdigits.cuts import Torn, Whole
+from sumdigits.greatest import Covered, Uncovered
 from sumdigits.judged import Right, Wrong
 from sumdigits.noughts import Nought, Somewhere
 from sumdigits.ranks import Rank
 from sumdigits.schemes import Plane, Scheme
 from sumdigits.spaces import Rows
 from sumdigits.tables import Table
+from sumdigits.ways import OneWay, TwoWays
 
 LESS_STEPS = [("e", "00", 1, "e"), ("e", "11", 1, "e"), ("e", "01", 1, "f"),
               ("f", "00", 1, "f"), ("f", "01", 1, "f"), ("f", "10", 1, "f"), ("f", "11", 1, "f")]
@@ -56,7 +58,7 @@ def odd_values():
             ["0", "1"], {}, {"e": 1}, {("e", "0"): {"e": True}}, some_function, size_table(), tree_scheme(),
             tree_scheme()[0], Rows.of(2, (1, 0)), Nought((), {}), Somewhere(("",), 1), Apart(("",), 0, 1),
             Right(((),), {}), Wrong("", "", 0, 7), Whole((), None), Torn("0", "0", "1", 10 ** 50), Rank(1, ((),), ()),
-            errors.BadBase(2)]
+            Covered((((), ()),)), Uncovered("", "", True, True), OneWay(), TwoWays(("5",)), errors.BadBase(2)]
 
 
 def same(one, other):

@@ -129,7 +129,35 @@ CUTS = '''
 [True, True, False, False]
 '''
 
-IN_ORDER = [WORDS, TABLES, KNOWN, SPACES, NOUGHTS, ALIKE, RANKS, SCHEMES, JUDGED, CUTS]
+GREATEST = '''
+>>> from sumdigits.greatest import Covered, Uncovered, keeps_greatest
+>>> from sumdigits.look_greatest import shows_greatest
+>>> from sumdigits.known import at_most, below, equal
+>>> [bool(keeps_greatest(tree, below(2))), keeps_greatest(tree, at_most(2)) == Uncovered("", "", False, True)]
+[True, True]
+>>> shows_greatest(tree, at_most(2), Uncovered("10", "10", False, True))
+True
+'''
+
+WAYS = '''
+>>> from sumdigits.tables import Table
+>>> from sumdigits.ways import OneWay, TwoWays, load, one_way, read_by, touched, ways
+>>> fork = Table(2, 1, "s", {("s", "0"): {"t": 3, "u": -3}, ("t", "1"): {"t": 1}, ("u", "1"): {"t": 1}}, {"t": 1})
+>>> [one_way(below(2)) == OneWay(), one_way(fork) == TwoWays(("01",)), fork["01"], ways(fork)["01"], ways(fork)["0"]]
+[True, True, 0, 2, 1]
+>>> [touched(tree, "01"), read_by(tree, "11"), load(tree, 2), load(tree, 100)[0] == 100 * 2 ** 99]
+[((0, '01'),), ((0, '01'), (0, '10')), (4, 4), True]
+'''
+
+PAIRED = '''
+>>> from sumdigits.paired import beside, pair_word, parted
+>>> both = beside(tree, tree)
+>>> [pair_word("01", "11"), parted("13"), len(both), bool(judge(both, below(2) | below(2))), touched(both, "0")]
+['13', ('01', '11'), 1, True, ((0, '0'),)]
+'''
+
+IN_ORDER = [WORDS, TABLES, KNOWN, SPACES, NOUGHTS, ALIKE, RANKS, SCHEMES, JUDGED, CUTS,
+            GREATEST, WAYS, PAIRED]
 
 
 class Examples(unittest.TestCase):
