@@ -1,6 +1,7 @@
 """Whether two tables tell the same everywhere, for all lengths, and where they do not."""
 
 from sumdigits.closing import search
+from sumdigits.copies import kept
 from sumdigits.errors import BadTable
 from sumdigits.papers import Verdict
 from sumdigits.readings import told_words, value_behind
@@ -12,8 +13,8 @@ class Alike(Verdict):
     """Both tables have the same values at all readings: the readings are closed with the factors."""
 
     def __init__(self, readings, factors):
-        self.readings = readings
-        self.factors = factors
+        self.readings = kept(readings)
+        self.factors = kept(factors)
 
     def __eq__(self, other):
         return isinstance(other, Alike) and self.readings == other.readings and self.factors == other.factors
@@ -26,9 +27,9 @@ class Apart(Verdict):
     """The tables have these two values at the words, of the width 0 at the length."""
 
     def __init__(self, words, one, other):
-        self.words = words
-        self.one = one
-        self.other = other
+        self.words = kept(words)
+        self.one = kept(one)
+        self.other = kept(other)
 
     def __eq__(self, other):
         return (isinstance(other, Apart) and self.words == other.words

@@ -1,6 +1,7 @@
 """Whether a scheme works for stores of any number of cells: what is lost when cells are cut off."""
 
 from sumdigits.closing import search
+from sumdigits.copies import kept
 from sumdigits.known import below
 from sumdigits.papers import Verdict
 from sumdigits.schemes import check_scheme
@@ -12,8 +13,8 @@ class Whole(Verdict):
     """All lost parts are 0: the readings are closed with the factors."""
 
     def __init__(self, readings, factors):
-        self.readings = readings
-        self.factors = factors
+        self.readings = kept(readings)
+        self.factors = kept(factors)
 
     def __eq__(self, other):
         return isinstance(other, Whole) and self.readings == other.readings and self.factors == other.factors
@@ -26,10 +27,10 @@ class Torn(Verdict):
     """The lost part at the entry, the question and the cell is worth, which is not 0."""
 
     def __init__(self, entry, question, cell, worth):
-        self.entry = entry
-        self.question = question
-        self.cell = cell
-        self.worth = worth
+        self.entry = kept(entry)
+        self.question = kept(question)
+        self.cell = kept(cell)
+        self.worth = kept(worth)
 
     def __eq__(self, other):
         return (isinstance(other, Torn) and self.entry == other.entry and self.question == other.question

@@ -1,6 +1,7 @@
 """Whether a scheme is right for a wanted table, for all lengths, and where it is not."""
 
 from sumdigits.closing import search
+from sumdigits.copies import kept
 from sumdigits.papers import Verdict
 from sumdigits.schemes import check_scheme, check_wanted
 from sumdigits.walks import AnswerWalk, JudgeWalk, vector_after
@@ -11,8 +12,8 @@ class Right(Verdict):
     """The scheme answers what is wanted: the readings are closed with the factors."""
 
     def __init__(self, readings, factors):
-        self.readings = readings
-        self.factors = factors
+        self.readings = kept(readings)
+        self.factors = kept(factors)
 
     def __eq__(self, other):
         return isinstance(other, Right) and self.readings == other.readings and self.factors == other.factors
@@ -25,10 +26,10 @@ class Wrong(Verdict):
     """For the entry and the question the answer table tells another number than is due."""
 
     def __init__(self, entry, question, told, due):
-        self.entry = entry
-        self.question = question
-        self.told = told
-        self.due = due
+        self.entry = kept(entry)
+        self.question = kept(question)
+        self.told = kept(told)
+        self.due = kept(due)
 
     def __eq__(self, other):
         return (isinstance(other, Wrong) and self.entry == other.entry and self.question == other.question

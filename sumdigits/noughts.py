@@ -1,6 +1,7 @@
 """Whether a table tells 0 everywhere, for all lengths, and where it does not."""
 
 from sumdigits.closing import search
+from sumdigits.copies import kept
 from sumdigits.papers import Verdict
 from sumdigits.readings import check_reading, told_words, value_behind, vector_behind
 from sumdigits.tables import check_table
@@ -11,8 +12,8 @@ class Nought(Verdict):
     """The values at all readings are 0: the readings are closed with the factors."""
 
     def __init__(self, readings, factors):
-        self.readings = readings
-        self.factors = factors
+        self.readings = kept(readings)
+        self.factors = kept(factors)
 
     def __eq__(self, other):
         return isinstance(other, Nought) and self.readings == other.readings and self.factors == other.factors
@@ -25,8 +26,8 @@ class Somewhere(Verdict):
     """The value at the words, of the width 0 at the length, is not 0."""
 
     def __init__(self, words, value):
-        self.words = words
-        self.value = value
+        self.words = kept(words)
+        self.value = kept(value)
 
     def __eq__(self, other):
         return isinstance(other, Somewhere) and self.words == other.words and self.value == other.value

@@ -2,6 +2,7 @@
 
 from sumdigits.bases import FIRST_PRIME, Basis, kept_of, taken
 from sumdigits.checks import is_between
+from sumdigits.copies import kept
 from sumdigits.parts import ended, without_zeros
 from sumdigits.readings import are_readings, check_reading, value_behind
 from sumdigits.spans import readings_ahead, readings_behind
@@ -13,9 +14,9 @@ class Rank:
     """The square of as many readings ahead and behind has a determinant other than 0."""
 
     def __init__(self, number, ahead, behind):
-        self.number = number
-        self.ahead = ahead
-        self.behind = behind
+        self.number = kept(number)
+        self.ahead = kept(ahead)
+        self.behind = kept(behind)
 
     def __eq__(self, other):
         return (isinstance(other, Rank) and self.number == other.number

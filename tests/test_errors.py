@@ -12,7 +12,9 @@ from sumdigits.judged import Right, Wrong
 from sumdigits.noughts import Nought, Somewhere
 from sumdigits.papers import Verdict
 from sumdigits.ranks import Rank
+from sumdigits.spaces import Rows
 from sumdigits.ways import OneWay, TwoWays
+from sumdigits.words import is_word, reading
 
 FIELDS = {
     "BadBase": ["value"], "BadWidth": ["value"], "BadName": ["value"], "BadWord": ["value"], "BadNumber": ["value"],
@@ -66,6 +68,87 @@ PAPERS = [
     (Whole, ["readings", "factors"], True), (Torn, ["entry", "question", "cell", "worth"], False),
     (Covered, ["pairs"], True), (Uncovered, ["entry", "question", "told", "due"], False),
     (OneWay, [], True), (TwoWays, ["words"], False), (Rank, ["number", "ahead", "behind"], None)]
+
+
+def changing():
+    """Triples of a value, a function that changes it and what stands within it, and an equal value."""
+    def nested():
+        return {"a": [1, ({"b": [2]}, [3])], (0, "0"): (1, [4])}
+
+    def change(value):
+        value["a"][1][0]["b"].append(5)
+        value["a"][1][1].clear()
+        value["a"].append(6)
+        value[0, "0"][1].append(7)
+        value["c"] = 8
+
+    def change_within(value):
+        change(value[0][1][0])
+        value[0][1].append(9)
+
+    yield [1, 2], lambda value: value.append(3), [1, 2]
+    yield {"a": 1}, lambda value: value.update(b=2), {"a": 1}
+    yield {"a": 1}, lambda value: value.clear(), {"a": 1}
+    yield nested(), change, nested()
+    yield [nested()], lambda value: change(value[0]), [nested()]
+    yield ((0, [nested()]), "x"), change_within, ((0, [nested()]), "x")
+    yield ([], {}), lambda value: value[0].append(value[1].update(a=1)), ([], {})
+    yield (((((((["deep"],),),),),),),), lambda value: value[0][0][0][0][0][0][0].append(1), (((((((["deep"],),),),),),),)
+
+
+def classes_with_fields():
+    """Pairs of a paper or an error and the names of its fields."""
+    return ([(paper, fields) for paper, fields, _ in PAPERS] +
+            [(getattr(errors, name), fields) for name, fields in FIELDS.items()])
+
+
+class Unchanged(unittest.TestCase):
+    """What is done to an argument afterwards changes nothing."""
+
+    def test_lists_and_dicts(self):
+        for made, fields in classes_with_fields():
+            for at, field in enumerate(fields):
+                for value, change, due in changing():
+                    values = [value if place == at else place for place in range(len(fields))]
+                    told = made(*values)
+                    again = made(**dict(zip(fields, values)))
+                    change(value)
+                    self.assertFalse(same(value, due))
+                    for paper in (told, again):
+                        self.assertTrue(same(getattr(paper, field), due), (made, field))
+                    if not issubclass(made, SumError):
+                        others = [due if place == at else place for place in range(len(fields))]
+                        self.assertTrue(told == again == made(*others))
+                        self.assertFalse(told == made(*values))
+
+    def test_one_value_in_two_fields(self):
+        for made, fields in classes_with_fields():
+            if len(fields) > 1:
+                value = [[1]]
+                paper = made(*[value] * len(fields))
+                value[0].append(2)
+                self.assertTrue(same(list(vars(paper).values()), [[[1]]] * len(fields)))
+
+    def test_other_values_are_kept_as_they_are(self):
+        for made, fields in classes_with_fields():
+            for at, field in enumerate(fields):
+                for value in odd_values():
+                    if not isinstance(value, (list, tuple, dict)):
+                        paper = made(*[[value] if place == at else place for place in range(len(fields))])
+                        self.assertIs(getattr(paper, field)[0], value)
+                        paper = made(*[value if place == at else place for place in range(len(fields))])
+                        self.assertIs(getattr(paper, field), value)
+
+    def test_refused_values(self):
+        """An error keeps what was refused, as it was."""
+        row = [1, [2]]
+        for call, error in ((lambda: Rows(2).more(row), errors.BadNumber), (lambda: is_word("0", row), errors.BadBase),
+                            (lambda: reading(row), errors.BadWord)):
+            with self.assertRaises(error) as caught:
+                call()
+            row[1].append(3)
+            self.assertEqual(caught.exception.value, [1, [2]])
+            row[1].pop()
 
 
 class Papers(unittest.TestCase):
