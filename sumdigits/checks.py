@@ -27,13 +27,12 @@ def is_name(value):
     """Whether a value is the name of a state."""
     if not isinstance(value, str) or not 1 <= len(value) <= 8:
         return False
-    return value[0] in NAME_STARTS and all([sign in NAME_SIGNS for sign in value])
+    return value[0] in NAME_STARTS and value.strip(NAME_SIGNS) == ""
 
 
 def has_digits(text, base):
     """Whether a string consists of digits of the base."""
-    digits = DIGITS[:base]
-    return all([sign in digits for sign in text])
+    return text.strip(DIGITS[:base]) == ""
 
 
 def is_letter(value, base, width):

@@ -2,7 +2,6 @@
 
 from sumdigits.checks import DIGITS, check_base, is_between, is_integer, letters_of
 from sumdigits.errors import BadLetter, BadWeight, BadWidth
-from sumdigits.parts import added_steps, nested_steps
 from sumdigits.schemes import Plane, Scheme
 from sumdigits.tables import Table
 
@@ -15,13 +14,13 @@ def equal(base):
 def below(base):
     """1 where the number of the first word is less than that of the second one."""
     check_base(base)
-    return _made(base, 2, _compared(base), {"f": 1})
+    return _comparing_table(base, {"f": 1})
 
 
 def at_most(base):
     """1 where the number of the first word is not above that of the second one."""
     check_base(base)
-    return _made(base, 2, _compared(base), {"e": 1, "f": 1})
+    return _comparing_table(base, {"e": 1, "f": 1})
 
 
 def within(base):
@@ -117,10 +116,20 @@ def _halves_table(by):
 
 def slope_scheme(base):
     """Running totals of the entries and of the entries times their numbers, the latter taken away."""
-    number = number_table(base).placed(2, 0)
-    change = at_most(base)
-    question = equal(base)
-    return Scheme(Plane(change, question * number + question), Plane(change * number * -1, question))
+    check_base(base)
+    same = {("e", letter): "e" for letter in _twins(base)}
+    one_more = Table(base, 2, "e", _counted_steps(base, same), {"e": 1, "g": 1})
+    less_number = Table(base, 2, "e", _counted_steps(base, _compared(base)), {"g": -1, "h": -1})
+    return Scheme(Plane(at_most(base), one_more), Plane(less_number, equal(base)))
+
+
+def _counted_steps(base, goals):
+    """The steps to the goals, and beside the states e and f the states g and h, at which the number of the first word
+    is being reckoned. goals is a dict from pairs (state, letter) to next states."""
+    beside = {"e": "g", "f": "h"}
+    first = {(state, letter): {goal: 1, beside[goal]: int(letter[0])} for (state, letter), goal in goals.items()}
+    further = {(beside[state], letter): {beside[goal]: base} for (state, letter), goal in goals.items()}
+    return {**first, **further}
 
 
 def _pairs(base):
@@ -139,12 +148,22 @@ def _steps(state, goal, weight, letters):
 
 
 def _compared(base):
-    """The steps by which the first word is equal so far at e, and less so far at f."""
-    less = [one + other for one, other in _pairs(base) if one < other]
-    return (_steps("e", "e", 1, _twins(base)) + _steps("e", "f", 1, less)
-            + _steps("f", "f", 1, letters_of(base, 2)))
+    """The next states, where the first word is equal so far at e, and less so far at f."""
+    every = letters_of(base, 2)
+    same = {("e", letter): "e" for letter in _twins(base)}
+    less = {("e", letter): "f" for letter in every if letter[0] < letter[1]}
+    later = {("f", letter): "f" for letter in every}
+    return {**same, **less, **later}
 
 
-def _made(base, width, steps, ends):
-    """The table with the start e and these steps, tuples (state, letter, weight, next state)."""
-    return Table(base, width, "e", nested_steps(added_steps(steps)), ends)
+def _comparing_table(base, ends):
+    """The table that compares the numbers of both words and has these ends."""
+    return Table(base, 2, "e", {key: {goal: 1} for key, goal in _compared(base).items()}, ends)
+
+
+def _made(base, width, rows, ends):
+    """The table with the start e and these steps, tuples (state, letter, weight, next state), none twice."""
+    steps = {(state, letter): {} for state, letter, _, _ in rows}
+    for state, letter, weight, goal in rows:
+        steps[state, letter][goal] = weight
+    return Table(base, width, "e", steps, ends)

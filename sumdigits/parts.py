@@ -9,21 +9,32 @@ from sumdigits.checks import is_integer, is_letter, is_name
 
 def are_ends(value):
     """Whether a value is a dict from names to integers."""
-    if not isinstance(value, dict):
-        return False
-    return all([is_name(state) and is_integer(weight) for state, weight in value.items()])
+    return isinstance(value, dict) and _are_names(list(value)) and _are_integers(list(value.values()))
 
 
 def are_steps(value, base, width):
     """Whether a value is a dict of nested steps by letters of the width in the base."""
     if not isinstance(value, dict):
         return False
-    return all([_is_source(key, base, width) and are_ends(goals) for key, goals in value.items()])
+    for key, goals in value.items():
+        if not isinstance(key, tuple) or len(key) != 2 or not isinstance(goals, dict):
+            return False
+    # Names and letters come up again and again: each of them is looked at once.
+    letters = {letter: True for _, letter in value}
+    names = {state: True for state, _ in value}
+    goal_names = {goal: True for goals in value.values() for goal in goals}
+    return (all([is_letter(letter, base, width) for letter in letters])
+            and _are_names(list(names)) and _are_names(list(goal_names))
+            and all([isinstance(weight, int) and not isinstance(weight, bool)
+                     for goals in value.values() for weight in goals.values()]))
 
 
-def _is_source(value, base, width):
-    return (isinstance(value, tuple) and len(value) == 2
-            and is_name(value[0]) and is_letter(value[1], base, width))
+def _are_names(values):
+    return all([is_name(value) for value in values])
+
+
+def _are_integers(values):
+    return all([is_integer(value) for value in values])
 
 
 def is_step(value, base, width):
@@ -40,8 +51,8 @@ def without_zeros(weights):
 
 def kept_steps(steps):
     """A copy of nested steps without weights of 0, and without pairs for which no step is left."""
-    kept = {key: without_zeros(goals) for key, goals in steps.items()}
-    return {key: kept[key] for key in kept if len(kept[key]) > 0}
+    kept = {key: dict(goals) if all(goals.values()) else without_zeros(goals) for key, goals in steps.items()}
+    return kept if all(kept.values()) else {key: kept[key] for key in kept if len(kept[key]) > 0}
 
 
 def flat_steps(steps):

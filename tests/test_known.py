@@ -9,7 +9,9 @@ from helpers import (
     assert_order, assert_raises, is_trimmed, odd_values, readings_of_length, same, slow_at, some_function,
     words_of_length)
 from sumdigits import known
+from sumdigits.alike import alike
 from sumdigits.errors import BadBase, BadLetter, BadWeight, BadWidth
+from sumdigits.judged import judge
 from sumdigits.known import (
     at_most, below, count_table, equal, halves_scheme, next_one, number_table, ones, plain_scheme, power,
     running_scheme, slope_scheme, tree_scheme, tree_with_entries, within)
@@ -316,11 +318,30 @@ class Schemes(unittest.TestCase):
         self.assertEqual([halves.question["1" * 100, "1" * 99 + "0"], halves.question["0" * 100, "0" * 100]],
                          [-2 ** 99, 2 ** 99])
 
-    def test_in_time(self):
+    def test_slopes_by_signs(self):
+        """The tables of slopes are those that sums and products of other known tables give."""
+        for base in BASES:
+            scheme, count = slope_scheme(base), number_table(base).placed(2, 0)
+            self.assertTrue(alike(scheme[0].question, equal(base) * count + equal(base)))
+            self.assertTrue(alike(scheme[1].change, at_most(base) * count * -1))
+            self.assertTrue(judge(scheme, scheme.answers()))
+            self.assertEqual([scheme[0].change, scheme[1].question], [at_most(base), equal(base)])
+            self.assertEqual([len(table) for plane in scheme for table in (plane.change, plane.question)], [2, 2, 4, 1])
+
+    def test_a_thousand_times_in_time(self):
+        for base in BASES:
+            spent = {}
+            for name, (made, _, _) in SCHEMES.items():
+                if base == 2 or name != "halves":
+                    spent[name] = min(self.spent_on(made, base, 250) for _ in range(4)) * 4
+                    self.assertLess(spent[name], 2, name)
+            self.assertLess(spent["slope"], 3.5 * spent["entries"])
+
+    def spent_on(self, made, base, times):
         begun = time.process_time()
-        for _ in range(20):
-            known_schemes()
-        self.assertLess(time.process_time() - begun, 20)
+        for _ in range(times):
+            made(base)
+        return time.process_time() - begun
 
 
 if __name__ == "__main__":
