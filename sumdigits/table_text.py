@@ -1,7 +1,8 @@
 """The words of the text of a table, written and read."""
 
-from sumdigits.checks import FIGURES, is_letter, is_name, letters_of
+from sumdigits.checks import is_letter, is_name, letters_of
 from sumdigits.errors import BadText
+from sumdigits.numerals import figures_of, number_in
 from sumdigits.parts import nested_steps
 
 
@@ -11,8 +12,9 @@ def table_words(table):
     for state in table.states:
         for letter in letters_of(table.base, table.width):
             goals = table.steps.get((state, letter), {})
-            words.extend([f"{state}:{letter}*{goals[goal]}>{goal}" for goal in table.states if goal in goals])
-    words.extend([f"{state}={table.ends[state]}" for state in table.states if state in table.ends])
+            words.extend([f"{state}:{letter}*{figures_of(goals[goal])}>{goal}"
+                          for goal in table.states if goal in goals])
+    words.extend([f"{state}={figures_of(table.ends[state])}" for state in table.states if state in table.ends])
     return words
 
 
@@ -74,10 +76,11 @@ def _read_ends(words, at):
     last = ""
     while at < len(words):
         state, _, figures = words[at].partition("=")
-        if not is_name(state) or not _is_weight(figures) or state <= last:
+        weight = _weight_in(figures)
+        if not is_name(state) or weight is None or state <= last:
             break
         last = state
-        ends[state] = int(figures)
+        ends[state] = weight
         at = at + 1
     return at, ends
 
@@ -87,14 +90,13 @@ def _step_in(word, base, width):
     state, _, rest = word.partition(":")
     letter, _, tail = rest.partition("*")
     figures, _, goal = tail.partition(">")
-    if not is_name(state) or not is_letter(letter, base, width) or not _is_weight(figures) or not is_name(goal):
+    weight = _weight_in(figures)
+    if not is_name(state) or not is_letter(letter, base, width) or weight is None or not is_name(goal):
         return None
-    return (state, letter, goal), int(figures)
+    return (state, letter, goal), weight
 
 
-def _is_weight(text):
-    """Whether a text is an integer other than 0 of at most 40 figures, as str writes it."""
-    figures = text.removeprefix("-")
-    if not 1 <= len(figures) <= 40 or figures[0] == "0":
-        return False
-    return all([figure in FIGURES for figure in figures])
+def _weight_in(text):
+    """The integer other than 0 of at most 40 figures that a text writes, or None."""
+    number = number_in(text, 40)
+    return None if number == 0 else number

@@ -6,12 +6,14 @@ import random
 from sumdigits import errors
 from sumdigits.alike import Apart
 from sumdigits.cuts import Torn, Whole
+from sumdigits.desk import Desk
 from sumdigits.greatest import Covered, Uncovered
 from sumdigits.judged import Right, Wrong
 from sumdigits.noughts import Nought, Somewhere
 from sumdigits.ranks import Rank
 from sumdigits.schemes import Plane, Scheme
 from sumdigits.spaces import Rows
+from sumdigits.stores import GreatestStore, Store, SumStore
 from sumdigits.tables import Table
 from sumdigits.ways import OneWay, TwoWays
 
@@ -58,7 +60,8 @@ def odd_values():
             ["0", "1"], {}, {"e": 1}, {("e", "0"): {"e": True}}, some_function, size_table(), tree_scheme(),
             tree_scheme()[0], Rows.of(2, (1, 0)), Nought((), {}), Somewhere(("",), 1), Apart(("",), 0, 1),
             Right(((),), {}), Wrong("", "", 0, 7), Whole((), None), Torn("0", "0", "1", 10 ** 50), Rank(1, ((),), ()),
-            Covered((((), ()),)), Uncovered("", "", True, True), OneWay(), TwoWays(("5",)), errors.BadBase(2)]
+            Covered((((), ()),)), Uncovered("", "", True, True), OneWay(), TwoWays(("5",)), errors.BadBase(2),
+            SumStore(tree_scheme(), 1), GreatestStore(tree_scheme(), 0), Desk()]
 
 
 def same(one, other):
@@ -88,6 +91,9 @@ def snapshot(value):
         return ("scheme", value.base, snapshot(value.planes))
     if isinstance(value, Rows):
         return ("rows", value.width, tuple(value))
+    if isinstance(value, Store):
+        return ("store", type(value), value.length, value.entries, value.log, str(value.scheme),
+                tuple(value.cells(plane) for plane in range(len(value.scheme))))
     return value
 
 

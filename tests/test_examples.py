@@ -156,8 +156,66 @@ PAIRED = '''
 ['13', ('01', '11'), 1, True, ((0, '0'),)]
 '''
 
+STORES = '''
+>>> from sumdigits.known import at_most, below, tree_scheme, tree_with_entries
+>>> from sumdigits.stores import GreatestStore, SumStore
+>>> store = SumStore(tree_scheme(2), 2)
+>>> store[0] = 5
+>>> [store.add(2, 7), store.entries, store.cells(0), [store(question) for question in range(4)]]
+[None, (5, 0, 7, 0), (5, 5, 7, 0), [0, 5, 5, 12]]
+>>> [store.first_wrong(below(2)), store.first_wrong(at_most(2)), store.log, len(store)]
+[None, 0, ('set 0 5', 'add 2 7'), 4]
+>>> [store.exchange(tree_with_entries(2)), store.first_wrong(at_most(2)), store(2), store.cells(1), store.undo(), store(2)]
+[None, None, 12, (5, 0, 7, 0), None, 5]
+>>> [store.play("set 3 -1", "add 0 1"), list(store), store(3), store.undo(), store[0]]
+[None, [6, 0, 7, -1], 13, None, 5]
+>>> store.play("set 3 9", "add 4 1")
+raises BadDeed(1)
+>>> store.scheme = 5
+raises BadScheme('scheme')
+>>> store.scheme = tree_with_entries(2)
+>>> [store.log[-1], store(0), store.undo(), store(0)]
+['exchange', 5, None, 0]
+>>> best = GreatestStore(tree_scheme(2), 2, 3)
+>>> [best.play("set 0 5", "set 1 3"), best(1), best(2), best.cells(0), len(best)]
+[None, 5, 5, (5, 5, 0), 3]
+>>> best[0] = 4
+raises BadNumber(4)
+>>> best(3)
+raises NoEntry(3)
+'''
+
+TEXTS = r'''
+>>> from sumdigits.reader import read_book, read_nought, read_store
+>>> from sumdigits.texts import write_book, write_nought, write_store
+>>> [write_store(store).split("\n")[0], write_store(store).split("\n")[2], read_store(write_store(store)) == store, read_store(write_store(best)) == best]
+['sums 2 4', '5 0 7 -1', True, True]
+>>> from sumdigits.noughts import Nought
+>>> paper = Nought(((), ("1",)), {(0, "0"): (1, (1, 0)), (0, "1"): (1, (0, 1)), (1, "0"): (1, (0, 1)), (1, "1"): (2, (0, 2))})
+>>> [write_nought(paper).split("\n")[:3], write_nought(paper).split("\n")[6], read_nought(write_nought(paper)) == paper]
+[['nought 1', 'reading', 'reading 1'], 'factor 1 1 2 0 2', True]
+>>> [write_book({}), read_book(write_book({"b": below(2), "a": tree_scheme(2)})) == {"a": tree_scheme(2), "b": below(2)}]
+['-', True]
+>>> read_store("sums 2 x")
+raises BadText(0, 2)
+'''
+
+DESK = '''
+>>> from sumdigits.desk import Desk
+>>> desk = Desk()
+>>> text, wanted = str(tree_scheme(2)), str(below(2))
+>>> desk.run("scheme t " + text, "table w " + wanted, "judge t w", "cut t", "tell w 01 11", "tell w -", "names", "open sums t 2", "set 0 5", "add 2 7", "ask 3", "entries", "back", "ask 3")
+['ok', 'ok', 'right', 'whole', '1', 'refused Unlike', 't w', 'ok', 'ok', 'ok', '12', '5 0 7 0', 'ok', '5']
+>>> [desk("nought w"), desk("drop x"), desk("judge w t"), desk("show w") == wanted, Desk()("ask 0")]
+['somewhere 1 0 1', 'refused NoState', 'refused BadScheme', True, 'refused Nothing']
+>>> desk("set 0")
+raises BadCommand(2)
+>>> desk("open more t 2")
+raises BadCommand(1)
+'''
+
 IN_ORDER = [WORDS, TABLES, KNOWN, SPACES, NOUGHTS, ALIKE, RANKS, SCHEMES, JUDGED, CUTS,
-            GREATEST, WAYS, PAIRED]
+            GREATEST, WAYS, PAIRED, STORES, TEXTS, DESK]
 
 
 class Examples(unittest.TestCase):

@@ -8,11 +8,12 @@ import unittest
 
 FOLDER = pathlib.Path(__file__).resolve().parent.parent / "sumdigits"
 BUILTINS = set("""len range enumerate zip min max sum abs sorted int str bool list tuple dict isinstance ord repr any all
-    divmod iter Exception ValueError TypeError KeyError staticmethod classmethod property""".split())
+    divmod iter Exception ValueError TypeError KeyError staticmethod classmethod property super""".split())
 LIBRARY = {"math": {"gcd", "lcm", "isqrt", "comb", "perm", "factorial"}}
 DOUBLE = set("""__init__ __eq__ __str__ __len__ __iter__ __bool__ __contains__ __getitem__ __setitem__ __call__ __enter__
     __exit__ __add__ __sub__ __mul__ __rmul__ __neg__ __invert__ __rshift__ __or__ __le__""".split())
-ARGUMENTS = {"__contains__": ["self", "x"], "__getitem__": ["self", "at"]}
+ARGUMENTS = {"__contains__": ["self", "x"], "__getitem__": ["self", "at"], "__setitem__": ["self", "at", "worth"],
+             "__exit__": ["self", "kind", "value", "trace"], "__enter__": ["self"]}
 ONE = {"__len__", "__iter__", "__bool__", "__str__", "__neg__", "__invert__"}
 NOT_NAMED = set("""register mro elements open input law version_info attrgetter breakpoint compile copyright delattr dir eval
     exec exit gc globals help id importlib license locals methodcaller os quit setattr super type vars sys next""".split())
@@ -20,11 +21,10 @@ NO_WORDS = set("""type typing typing_extensions enum Enum IntEnum StrEnum Flag I
     NamedTuple TypedDict TYPE_CHECKING abstractmethod""".split())
 METHODS = set("""append clear copy count endswith extend find get index insert items join keys ljust lower lstrip partition pop
     remove replace reverse rfind rjust rpartition rsplit rstrip setdefault split splitlines startswith strip update upper
-    values zfill bit_length removeprefix removesuffix""".split())
+    values zfill bit_length removeprefix removesuffix setter""".split())
 NEVER = (ast.Global, ast.AsyncFunctionDef, ast.Await, ast.Div, ast.MatMult, ast.AnnAssign, ast.Import)
 # The language allows these under narrow rules that this test does not see: read them before one leaves this list.
-NOT_SO_FAR = (ast.GeneratorExp, ast.Set, ast.SetComp, ast.AugAssign, ast.Try, ast.Lambda, ast.With, ast.Match,
-              ast.NamedExpr, ast.Delete)
+NOT_SO_FAR = (ast.GeneratorExp, ast.Set, ast.SetComp, ast.AugAssign, ast.Lambda, ast.Match, ast.NamedExpr)
 
 
 def files():
@@ -78,6 +78,46 @@ class Form(unittest.TestCase):
                     for sign, part in zip(node.ops, node.comparators):
                         if isinstance(sign, (ast.Is, ast.IsNot)):
                             self.assertIsInstance(part, ast.Constant, path.name)
+
+    def test_narrow_forms(self):
+        """Errors of the package alone are caught; a block is one of a trial; items alone are deleted."""
+        for path, tree in trees():
+            caught = {alias.name for node in tree.body if isinstance(node, ast.ImportFrom)
+                      and node.module == "sumdigits.errors" for alias in node.names}
+            for node in ast.walk(tree):
+                if isinstance(node, ast.Try):
+                    self.assertFalse(node.finalbody + node.orelse, path.name)
+                    for handler in node.handlers:
+                        self.assertIn(handler.type.id, caught, path.name)
+                if isinstance(node, ast.With):
+                    self.assertEqual([ast.unparse(item) for item in node.items], ["self.trial() as held"])
+                if isinstance(node, ast.Delete):
+                    self.assertTrue(all(isinstance(target, ast.Subscript) for target in node.targets), path.name)
+                if isinstance(node, ast.Name) and node.id == "super":
+                    self.assertEqual(path.name, "stores.py")
+                if isinstance(node, ast.FunctionDef) and node.name == "__exit__":
+                    self.assertEqual([ast.unparse(row) for row in node.body],
+                                     ["store = self.store", "store._now = self.moment"])
+
+    def test_super_calls_a_method_of_the_same_name(self):
+        for path, tree in trees():
+            calls = [node for node in ast.walk(tree) if isinstance(node, ast.Name) and node.id == "super"]
+            rows = [ast.unparse(row) for node in ast.walk(tree) if isinstance(node, ast.FunctionDef)
+                    for row in node.body if re.match(rf"(return )?super[(][)][.]{node.name}[(]", ast.unparse(row))]
+            self.assertEqual(len(calls), len(rows), path.name)
+
+    def test_properties(self):
+        """No name of a property is that of a method or an attribute; a setter stands below its property."""
+        properties, others = set(), set()
+        for path, tree in trees():
+            for node in ast.walk(tree):
+                if isinstance(node, ast.FunctionDef):
+                    marks = [ast.unparse(mark) for mark in node.decorator_list]
+                    (properties if "property" in marks or f"{node.name}.setter" in marks else others).add(node.name)
+                if isinstance(node, ast.Attribute) and isinstance(node.ctx, ast.Store):
+                    others.add(node.attr)
+        self.assertEqual(properties, {"length", "entries", "scheme", "log"})
+        self.assertFalse(properties & others)
 
     def test_imports(self):
         own = {path.stem: {node.name for node in tree.body if isinstance(node, (ast.FunctionDef, ast.ClassDef))} |
@@ -145,7 +185,15 @@ class Form(unittest.TestCase):
                     continue
                 self.assertIsInstance(node, (ast.ImportFrom, ast.FunctionDef, ast.ClassDef, ast.Assign), path.name)
                 if isinstance(node, ast.Assign):
-                    ast.literal_eval(node.value)
+                    above = {part.name for part in tree.body[:at] if isinstance(part, ast.FunctionDef)}
+                    self.check_plain(node.value, above)
+
+    def check_plain(self, value, functions):
+        """A value that is written out, or a dict of functions that are defined above it."""
+        if isinstance(value, ast.Dict) and value.values and isinstance(value.values[0], ast.Name):
+            self.assertLessEqual({part.id for part in value.values}, functions)
+            value = ast.Tuple(value.keys, ast.Load())
+        ast.literal_eval(value)
 
     def test_classes(self):
         methods, attributes = {}, {}
@@ -166,7 +214,8 @@ class Form(unittest.TestCase):
                 if isinstance(node, ast.Call) and isinstance(node.func, ast.Attribute):
                     self.assertIn(node.func.attr, METHODS | own, path.name)
                 if isinstance(node, ast.Attribute) and isinstance(node.ctx, ast.Load):
-                    self.assertIn(node.attr, METHODS | own | set(attributes), path.name)
+                    if ast.unparse(node) not in ("error.__class__", "error.__class__.__name__"):
+                        self.assertIn(node.attr, METHODS | own | set(attributes), path.name)
 
     def check_method(self, path, method):
         names = [argument.arg for argument in method.args.args]
@@ -174,14 +223,14 @@ class Form(unittest.TestCase):
             self.assertIn(method.name, DOUBLE, path.name)
             if method.name in ONE:
                 self.assertEqual(names, ["self"], method.name)
-            elif method.name != "__init__":
+            elif method.name not in ("__init__", "__call__"):
                 self.assertEqual(names, ARGUMENTS.get(method.name, ["self", "other"]), method.name)
         if method.name in ("__iter__", "__len__"):
             self.assertEqual(len(method.body), 1)
         if method.name == "__str__":
             self.assertIsInstance(method.body[-1], ast.Return)
         for mark in method.decorator_list:
-            self.assertIn(mark.id, ("staticmethod", "classmethod"))
+            self.assertIn(ast.unparse(mark), ("staticmethod", "classmethod", "property", f"{method.name}.setter"))
 
     def test_generators_do_not_stray(self):
         for path, tree in trees():

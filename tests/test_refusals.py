@@ -19,6 +19,7 @@ from sumdigits.noughts import nought, vector
 from sumdigits.paired import beside
 from sumdigits.ranks import rank, shows_rank, value_at
 from sumdigits.schemes import Plane, Scheme, row_of
+from sumdigits.stores import GreatestStore, SumStore
 from sumdigits.tables import Table
 from sumdigits.ways import load, one_way, read_by, touched, ways
 from sumdigits.words import all_words, is_word, number_of, word_of
@@ -33,6 +34,14 @@ def first_word(base, length):
 
 def total(length):
     return below(2).total(length)
+
+
+def exchange(scheme):
+    return SumStore(tree_scheme(), 1).exchange(scheme)
+
+
+def first_wrong(wanted):
+    return GreatestStore(tree_scheme(), 1).first_wrong(wanted)
 
 
 # Each call with its parameters in order: a good value and what it stands for.
@@ -72,7 +81,10 @@ CALLS = [
     (touched, {"scheme": (tree_scheme(), SCHEME), "entry": ("0", OTHER)}),
     (read_by, {"scheme": (tree_scheme(), SCHEME), "question": ("0", OTHER)}),
     (load, {"scheme": (tree_scheme(), SCHEME), "length": (1, LENGTH)}),
-    (beside, {"one": (tree_scheme(), SCHEME), "other": (tree_scheme(), SCHEME)})]
+    (beside, {"one": (tree_scheme(), SCHEME), "other": (tree_scheme(), SCHEME)}),
+    (SumStore, {"scheme": (tree_scheme(), SCHEME), "length": (1, OTHER), "size": (None, OTHER)}),
+    (GreatestStore, {"scheme": (tree_scheme(), SCHEME), "length": (1, OTHER), "size": (None, OTHER)}),
+    (exchange, {"scheme": (tree_scheme(), SCHEME)}), (first_wrong, {"wanted": (below(2), TABLE)})]
 for made in (known.equal, known.below, known.at_most, known.within, known.next_one, known.number_table,
              known.plain_scheme, known.running_scheme, known.tree_scheme, known.tree_with_entries, known.slope_scheme):
     CALLS.append((made, {"base": (2, BASE)}))
