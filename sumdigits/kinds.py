@@ -54,8 +54,9 @@ class Greatest:
     def joined(self, pairs):
         best = 0
         for row, cells in pairs:
-            for at, number in row.items():
-                if number > 0 and cells[at] > best:
+            # What a scheme tells here is never below 0, and rows have no 0: so all that they have counts.
+            for at in row:
+                if cells[at] > best:
                     best = cells[at]
         return best
 

@@ -19,14 +19,14 @@ class Moment:
         self.ahead = ahead
         self.many = 0 if ahead is None else ahead.many + 1
 
-    def deeds(self):
-        """The tuple of the texts of all deeds that led here."""
-        texts = []
-        moment = self
-        while moment.ahead is not None:
-            texts.append(moment.text)
-            moment = moment.ahead
-        return tuple(texts[::-1])
+
+def deeds_to(moment):
+    """The tuple of the texts of all deeds that led to a moment."""
+    texts = []
+    while moment.ahead is not None:
+        texts.append(moment.text)
+        moment = moment.ahead
+    return tuple(texts[::-1])
 
 
 def first_moment(kind, plan, column):

@@ -53,7 +53,6 @@ class Line:
 
     def object_from(self, kind, index):
         """The table or the scheme that the words from an index on write."""
-        self.word_at(index)
         try:
             return read_kind(kind, " ".join(self.words[index:]))
         except BadText as error:

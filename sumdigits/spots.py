@@ -51,14 +51,17 @@ class Spots:
     both have ends; `texts` tells the text of each bit."""
 
     def __init__(self, scheme):
-        self.digits = DIGITS[:scheme.base]
-        self.texts = []
-        self.planes = []
+        parts = []
+        texts = []
         for at, plane in enumerate(scheme.planes):
-            self.planes.append(PlaneSpots(plane, at, len(self.texts)))
-            self.texts.extend(self.planes[at].texts)
-        self.start = sum([plane.start for plane in self.planes])
-        self.ends = sum([plane.ends for plane in self.planes])
+            part = PlaneSpots(plane, at, len(texts))
+            parts.append(part)
+            texts.extend(part.texts)
+        self.parts = parts
+        self.texts = texts
+        self.digits = DIGITS[:scheme.base]
+        self.start = sum([part.start for part in parts])
+        self.ends = sum([part.ends for part in parts])
         self.known = {}
 
     def moved(self, spots, letter):
@@ -66,10 +69,10 @@ class Spots:
         key = (spots, letter)
         if key not in self.known:
             found = 0
-            for plane in self.planes:
-                rows = plane.rows_in(spots)
+            for part in self.parts:
+                rows = part.rows_in(spots)
                 for digit in self.digits:
-                    found = found | plane.moved(rows, letter[0] + digit, letter[1] + digit)
+                    found = found | part.moved(rows, letter[0] + digit, letter[1] + digit)
             self.known[key] = found
         return self.known[key]
 

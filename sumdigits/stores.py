@@ -4,7 +4,7 @@ from sumdigits.checks import is_between, power
 from sumdigits.errors import BadDeed, BadNumber, NoEntry, NoPlane, Nothing, SumError, TooMany, Unlike
 from sumdigits.grids import Grid, Plan
 from sumdigits.kinds import Greatest, Sums, gathered
-from sumdigits.moments import Trial, changed_moment, exchanged_moment, first_moment
+from sumdigits.moments import Trial, changed_moment, deeds_to, exchanged_moment, first_moment
 from sumdigits.numerals import figures_of, number_in
 from sumdigits.schemes import check_scheme, check_wanted
 
@@ -110,7 +110,7 @@ class Store:
     @property
     def log(self):
         """The texts of the deeds that are not taken back."""
-        return self._now.deeds()
+        return deeds_to(self._now)
 
     def cells(self, plane):
         """The tuple of the cells of the plane with this index."""
@@ -222,7 +222,7 @@ class SumStore(Store):
 
     @property
     def log(self):
-        return self._now.deeds()
+        return deeds_to(self._now)
 
     def cells(self, plane):
         return super().cells(plane)
@@ -297,7 +297,7 @@ class GreatestStore(Store):
 
     @property
     def log(self):
-        return self._now.deeds()
+        return deeds_to(self._now)
 
     def cells(self, plane):
         return super().cells(plane)

@@ -119,8 +119,9 @@ class Beside(unittest.TestCase):
                 assert_raises(self, TooMany, ["states", 40], beside, ~rings[one], ~rings[other])
             else:
                 self.assertEqual(len(beside(rings[one], rings[other])[0].change), lcm(one, other))
-        big = Scheme(*[rings[13][0]] * 3)
-        assert_raises(self, TooMany, ["planes", 8], beside, big, big)
+        # Too many planes come ahead of too many states.
+        assert_raises(self, TooMany, ["planes", 8], beside, Scheme(*[rings[7][0]] * 3), Scheme(*[rings[8][0]] * 3))
+        assert_raises(self, TooMany, ["states", 40], beside, Scheme(*[rings[7][0]] * 2), Scheme(*[rings[8][0]] * 4))
 
     def test_what_is_refused(self):
         tree = tree_scheme()

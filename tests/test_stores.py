@@ -340,6 +340,7 @@ class New(unittest.TestCase):
             twin.undo()
             self.assertFalse(Store.__eq__(store, twin))
             self.assertFalse(Store.__eq__(SumStore(tree_scheme(), 1), GreatestStore(tree_scheme(), 1)))
+            self.assertFalse(Store.__eq__(twin, twin.entries))
 
 
 class Refused(unittest.TestCase):
@@ -548,7 +549,7 @@ class Deeds(unittest.TestCase):
     def test_numbers_of_any_length(self):
         """More figures than str and int take."""
         store = SumStore(tree_scheme(), 2)
-        for many in (60, 61, 640, 2000, 4299, 4300, 4301, 9000):
+        for many in (60, 61, 640, 661, 2000, 4299, 4300, 4301, 4321, 9000):
             for sign in ("", "-"):
                 deed = f"set 1 {sign}1{'0' * (many - 2)}7"
                 store.play(deed)
